@@ -510,23 +510,40 @@ func TestSeveralThreads(t *testing.T) {
 
 // TestOrdersOfTwo goes through every order of two threads' Begins.
 func TestOrdersOfTwo(t *testing.T) {
-	for order := range 1 << 14 {
+	const turns = 16 // two Begins have eight touches each at most here: one node each is freed
+	whole := 0
+	for order := range 1 << turns {
 		b := newBoth(t, 2, 6)
 		for i := range 2 {
 			r := b.node(t, arena.Node{})
 			b.do(func(w *World) { w.Epochs.Leave(i, r, -3+int64(i)) })
 		}
 		work := []pair{b.work(0, nil, act{kind: begin}), b.work(1, nil, act{kind: begin})}
-		for n := range 14 {
-			if p := work[order>>n&1]; !p.twin.ended {
-				p.step(t)
-			}
+		if !inOrder(t, work, order, turns) {
+			continue
 		}
-		for _, p := range work {
-			p.run(t)
+		whole++
+		if !work[0].twin.ended || !work[1].twin.ended {
+			t.Fatalf("P8.2: order %b: %d turns are too few", order, turns)
 		}
 		b.close(t)
 	}
+	if whole < 1000 {
+		t.Errorf("P8.2: %d orders only", whole)
+	}
+}
+
+// inOrder goes on with that work of two which each turn's bit names; false: a turn names work that is at its end, so that another order is the same as this one.
+func inOrder(t *testing.T, work []pair, order, turns int) bool {
+	t.Helper()
+	for n := range turns {
+		p := work[order>>n&1]
+		if p.twin.ended {
+			return work[1].twin.ended && work[0].twin.ended && order>>n == 0
+		}
+		p.step(t)
+	}
+	return true
 }
 
 // TestNodesWaitWhileOneStandsStill: what one may be at isn't freed; when it is at its end, and each began four times, all is.
